@@ -1,0 +1,1 @@
+"""Rates and quotas over several servers, with a reason for each no."""

@@ -1,0 +1,16 @@
+"""The bounds that are kept by an error, in one place, and the bounds of single numbers."""
+
+from surelet.errors import TooMany
+
+MOST_FORMS = 6
+MOST_BORDERS = 12
+# Bounds both the period of one Days and the common one of several rests.
+MOST_PERIOD = 2000
+# Bounds chips of a rule, widths of windows and borders alike.
+MOST_SIZE = 1000
+
+
+def check_count(what, count, most):
+    """Raises TooMany if there are more than the bound."""
+    if count > most:
+        raise TooMany(what, count)

@@ -1,0 +1,62 @@
+"""What the tests share."""
+
+import unittest
+
+from surelet.rests import Days, Window
+
+BOOLEANS = [True, False]
+OTHERS = [
+    None,
+    "",
+    "a",
+    "A",
+    "1",
+    "window 5",
+    1.5,
+    (),
+    (1,),
+    (True, 1),
+    ("a", 1),
+    [],
+    [1, 2],
+    ["a"],
+    [[1], [2]],
+    {},
+    {"a": 1},
+    {"a": [{"b": (1, [2])}]},
+    Window(5),
+    Days([3, 7], 5),
+    [Window(5)],
+]
+NOT_NUMBERS = BOOLEANS + OTHERS
+
+
+def same(one, other):
+    """Whether two values are equal and of one kind, so that True is not 1."""
+    if type(one) is not type(other):
+        return False
+    if isinstance(one, (list, tuple)):
+        return len(one) == len(other) and all(same(a, b) for a, b in zip(one, other))
+    return one == other
+
+
+class Case(unittest.TestCase):
+    """A test case that looks at errors and values with their kinds."""
+
+    def check_error(self, error, values, call, *args, **named):
+        """The call raises just this class, with these values as its attributes in order."""
+        try:
+            got = call(*args, **named)
+        except Exception as caught:
+            self.assertIs(type(caught), error, f"{caught!r} from {args!r} {named!r}")
+            names = [name for name in vars(caught) if name != "code"]
+            told = [getattr(caught, name) for name in names]
+            self.assertTrue(same(told, list(values)), f"{told!r} instead of {values!r}")
+            self.assertEqual(caught.code, error.__name__)
+            return
+        self.fail(f"no error, but {got!r} from {args!r} {named!r}")
+
+    def check_same(self, got, wanted):
+        """Equal values of one kind."""
+        self.assertTrue(same(got, wanted), f"{got!r} instead of {wanted!r}")
+
