@@ -6,8 +6,15 @@ MOST_FORMS = 6
 MOST_BORDERS = 12
 # Bounds both the period of one Days and the common one of several rests.
 MOST_PERIOD = 2000
+MOST_PLACES = 24
+MOST_SERVERS = 6
+MOST_RULES = 12
+MOST_CUSTOMERS = 12
+MOST_ROOMS = 6
 # Bounds chips of a rule, widths of windows and borders alike.
 MOST_SIZE = 1000
+MOST_ERROR = 100
+MOST_WEIGHT = 12
 
 
 def check_count(what, count, most):

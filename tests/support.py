@@ -2,8 +2,13 @@
 
 import unittest
 
+from surelet.houses import House
 from surelet.rests import Days, Window
+from surelet.rules import Rule
+from surelet.trees import Place, Tree
 
+RULE = Rule("r", 2, Window(10))
+TREE = Tree(RULE, Place("a", "sa"))
 BOOLEANS = [True, False]
 OTHERS = [
     None,
@@ -27,6 +32,11 @@ OTHERS = [
     Window(5),
     Days([3, 7], 5),
     [Window(5)],
+    RULE,
+    Place("a", "sa"),
+    TREE,
+    House(TREE, servers=[("sa", 0)]),
+    {"a": (RULE, [TREE])},
 ]
 NOT_NUMBERS = BOOLEANS + OTHERS
 

@@ -8,6 +8,14 @@ import unittest
 FUNCTIONS = {
     "words": {"is_number": "(value, least, most)", "is_name": "(value)"},
     "rests": {"parted": "(rest, other)"},
+    "resttexts": {"read_rest": "(text)"},
+    "rules": {
+        "read_rule": "(text)",
+        "ladder": "(name, size, every, steps)",
+        "fullest": "(rest, uses)",
+        "is_within": "(rule, uses)",
+        "breach": "(rule, other)",
+    },
 }
 # For each module: its classes, with the methods that the interface lists for each.
 CLASSES = {
@@ -30,9 +38,45 @@ CLASSES = {
         "Sooner": {"__init__": "(self, first, second)", "__call__": "(self, t)"},
         "Next": {"__init__": "(self, first, second)", "__call__": "(self, t)"},
     },
+    "rules": {
+        "Rule": {"__init__": "(self, name, chips, rest)", "__str__": "(self)", "__eq__": "(self, other)"},
+    },
+    "trees": {
+        "Place": {
+            "__init__": "(self, name, server, elder=None, *, memory=False, customer=None)",
+            "__eq__": "(self, other)",
+        },
+        "Tree": {
+            "__init__": "(self, rule, *places)",
+            "places": "(self)",
+            "place_of": "(self, name)",
+            "children": "(self, name)",
+            "way_up": "(self, name)",
+            "is_above": "(self, name, other)",
+            "servers": "(self)",
+            "top": "(self, server)",
+            "__contains__": "(self, name)",
+            "__len__": "(self)",
+            "__eq__": "(self, other)",
+        },
+    },
+    "houses": {
+        "House": {
+            "__init__": "(self, *trees, servers, customers=(), rooms=())",
+            "servers": "(self)",
+            "rules": "(self)",
+            "customers": "(self)",
+            "error_of": "(self, server)",
+            "weight_of": "(self, customer)",
+            "tree_of": "(self, rule)",
+            "path": "(self, customer)",
+            "path_rules": "(self, customer)",
+            "rooms": "(self, server)",
+        },
+    },
 }
-PROPERTIES = {}
-GENERATORS = {("Rest", "steps")}
+PROPERTIES = {("houses", "House"): ["scale"]}
+GENERATORS = {("Rest", "steps"), ("Tree", "way_up")}
 BASES = {"Window": "Rest", "Days": "Rest", "Later": "Rest", "Sooner": "Rest", "Next": "Rest"}
 
 
