@@ -6,10 +6,20 @@ LETTERS = "abcdefghijklmnopqrstuvwxyz"
 DIGITS = "0123456789"
 
 
+def is_whole(value):
+    """Whether any value is a number, however small or great."""
+    # Python counts True and False as integers, the document does not.
+    return isinstance(value, int) and not isinstance(value, bool)
+
+
+def is_from(value, least):
+    """Whether any value is a number from least on."""
+    return is_whole(value) and least <= value
+
+
 def is_number(value, least, most):
     """Whether any value is a number from least to most."""
-    # Python counts True and False as integers, the document does not.
-    return isinstance(value, int) and not isinstance(value, bool) and least <= value <= most
+    return is_whole(value) and least <= value <= most
 
 
 def is_name(value):

@@ -42,11 +42,13 @@ NOT_NUMBERS = BOOLEANS + OTHERS
 
 
 def same(one, other):
-    """Whether two values are equal and of one kind, so that True is not 1."""
+    """Whether two values are equal and of one kind, so that True is not 1; the order of keys counts, too."""
     if type(one) is not type(other):
         return False
     if isinstance(one, (list, tuple)):
         return len(one) == len(other) and all(same(a, b) for a, b in zip(one, other))
+    if isinstance(one, dict):
+        return same(list(one.items()), list(other.items()))
     return one == other
 
 
@@ -70,3 +72,23 @@ class Case(unittest.TestCase):
         """Equal values of one kind."""
         self.assertTrue(same(got, wanted), f"{got!r} instead of {wanted!r}")
 
+
+def facts(purse):
+    """All that a purse tells, in one list."""
+    places = [place.name for place in purse.tree.places() if place.server == purse.server]
+    told = [purse.tree, purse.server, purse.error, purse.past, purse.last_reading, purse.ready_chips, len(purse)]
+    told += [bool(purse), purse.remembered(), purse.table(), purse.standing(), purse.payable(), purse.payable(["ann"])]
+    for place in places:
+        told += [purse.lots(place), purse.usable(place)]
+        told += [purse.lot(place, lot[0]) for lot in purse.lots(place)]
+    return told
+
+
+class PurseCase(Case):
+    """A test case that looks at what a refused operation leaves."""
+
+    def refused(self, purse, error, values, call, *args, **named):
+        """The call on the purse raises this error, and nothing of the purse is changed."""
+        ahead = facts(purse)
+        self.check_error(error, values, call, *args, **named)
+        self.check_same(facts(purse), ahead)
