@@ -11,8 +11,11 @@ MOST_SERVERS = 6
 MOST_RULES = 12
 MOST_CUSTOMERS = 12
 MOST_ROOMS = 6
+MOST_WAITING = 40
+MOST_ROWS = 64
 # Bounds chips of a rule, widths of windows and borders alike.
 MOST_SIZE = 1000
+MOST_COST = 1000
 MOST_ERROR = 100
 MOST_WEIGHT = 12
 

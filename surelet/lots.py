@@ -60,9 +60,7 @@ class Lot:
         return self.ready + count_parts(self.resting)
 
     def parts(self):
-        """The chips as parts: ready ones with the moment 0, then the resting ones."""
-        if self.ready == 0:
-            return self.resting
+        """The chips as parts: ready ones with the moment 0, also if there are none, then the resting ones."""
         return ((0, self.ready), *self.resting)
 
     def first_missing(self, parts):

@@ -40,22 +40,15 @@ def read_back(word):
 def stock_from(tree, server, table):
     """The stock and the past of a table, which may have keys of other rules."""
     stock = Stock(tree, server)
-    past = 0
+    rule = tree.rule.name
+    stock.following = int(table[f"{rule} next"])
     for key, value in table.items():
-        rule, _, behind = key.partition(" ")
-        if rule != tree.rule.name:
-            continue
-        word, *names = behind.split(" ")
-        if word == "past":
-            past = int(value)
-        elif word == "next":
-            stock.following = int(value)
-        elif word == "had":
-            stock.had[int(names[0])] = int(value)
-        else:
-            place, number = names
+        if key.startswith(f"{rule} had "):
+            stock.had[int(key.split(" ")[2])] = int(value)
+        elif key.startswith(f"{rule} lot "):
+            _, _, place, number = key.split(" ")
             stock.put(place, lot_from(int(number), value))
-    return stock, past
+    return stock, int(table[f"{rule} past"])
 
 
 def lot_from(number, text):

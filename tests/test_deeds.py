@@ -148,7 +148,8 @@ class Performing(PurseCase):
             self.refused(purse, InvalidDeed, [value], perform, purse, value)
         for deed, _ in DEEDS:
             self.refused(purse, InvalidDeed, [deed + (1,)], perform, purse, deed + (1,))
-        for deed in (("request", 3, "ann", 2), ("enter", 3, "desk", "ann", 2, 9), ("carry", 3, 0)):
+        for deed in (("request", 3, "ann", 2), ("enter", 3, "desk", "ann", 2, 9), ("carry", 3, 0), ("request", 3, "r", 2),
+                     ("enter", 3, "r", "b", 2, 9), ("enter", 3, "r", "b", 2, None)):
             self.refused(purse, InvalidDeed, [deed], perform, purse, deed)
 
     def test_other_rules(self):

@@ -16,6 +16,8 @@ FUNCTIONS = {
         "is_within": "(rule, uses)",
         "breach": "(rule, other)",
     },
+    "deeds": {"is_deed": "(value)", "perform": "(purse, deed)"},
+    "disks": {"read_areas": "(areas)"},
 }
 # For each module: its classes, with the methods that the interface lists for each.
 CLASSES = {
@@ -74,8 +76,106 @@ CLASSES = {
             "rooms": "(self, server)",
         },
     },
+    "purses": {
+        "Purse": {
+            "__init__": "(self, tree, server, error)",
+            "settle": "(self, reading)",
+            "use": "(self, reading, place, n, *, lot=None)",
+            "pay": "(self, reading, path, n)",
+            "lend": "(self, reading, place, child, n, *, until=None, lot=None)",
+            "prolong": "(self, reading, number, until)",
+            "give_back": "(self, reading, place, lot, parts)",
+            "recall": "(self, reading, place, lot)",
+            "receive": "(self, reading, letter)",
+            "lots": "(self, place)",
+            "lot": "(self, place, number)",
+            "remembered": "(self)",
+            "usable": "(self, place)",
+            "payable": "(self, path=())",
+            "standing": "(self)",
+            "table": "(self)",
+            "__len__": "(self)",
+            "copy": "(self)",
+        },
+    },
+    "plain": {
+        "Plain": {
+            "__init__": "(self, tree, errors)",
+            "do": "(self, event)",
+            "purse": "(self, server)",
+            "letters": "(self)",
+            "uses": "(self)",
+        },
+    },
+    "disks": {
+        "Disk": {
+            "__init__": "(self, table, *, rows=16)",
+            "write": "(self, changes)",
+            "check": "(self, *, synced=True)",
+            "sync": "(self)",
+            "fall": "(self, cut=())",
+            "wake": "(self)",
+            "table": "(self)",
+            "areas": "(self)",
+            "unsynced": "(self)",
+            "copy": "(self)",
+        },
+    },
+    "answers": {
+        "Yes": {"__init__": "(self, paid)", "__eq__": "(self, other)", "__repr__": "(self)"},
+        "No": {"__init__": "(self, rule, ready, asked)", "__eq__": "(self, other)", "__repr__": "(self)"},
+        "Behind": {"__init__": "(self, customer)", "__eq__": "(self, other)", "__repr__": "(self)"},
+        "Waits": {"__init__": "(self, room)", "__eq__": "(self, other)", "__repr__": "(self)"},
+    },
+    "rooms": {
+        "Room": {
+            "__init__": "(self, weights)",
+            "join": "(self, customer, cost, until=None)",
+            "serve": "(self)",
+            "leave": "(self, reading)",
+            "waiting": "(self)",
+            "mark_of": "(self, customer)",
+            "__len__": "(self)",
+            "copy": "(self)",
+        },
+    },
+    "servers": {
+        "Server": {
+            "__init__": "(self, house, name, *, rows=16)",
+            "tick": "(self, reading)",
+            "request": "(self, reading, customer, cost)",
+            "enter": "(self, reading, room, customer, cost, *, until=None)",
+            "use": "(self, reading, rule, place, n, *, lot=None)",
+            "lend": "(self, reading, rule, place, child, n, *, until=None, lot=None)",
+            "prolong": "(self, reading, rule, number, until)",
+            "give_back": "(self, reading, rule, place, lot, parts)",
+            "recall": "(self, reading, rule, place, lot)",
+            "receive": "(self, reading, letter)",
+            "do": "(self, deed)",
+            "fall": "(self, cut=())",
+            "wake": "(self, reading)",
+            "crash": "(self, deed, cut=())",
+            "when": "(self, reading, room)",
+            "purse": "(self, rule)",
+            "disk": "(self)",
+            "waiting_in": "(self, room)",
+            "head_of": "(self, room)",
+            "mark_in": "(self, room, customer)",
+            "book": "(self, rule)",
+            "copy": "(self)",
+        },
+    },
 }
-PROPERTIES = {("houses", "House"): ["scale"]}
+# For each class method: its parameters behind the class.
+CLASS_METHODS = {("purses", "Purse", "restored"): "(tree, server, error, table, reading)"}
+PROPERTIES = {
+    ("houses", "House"): ["scale"],
+    ("purses", "Purse"): ["ready_chips", "past", "last_reading"],
+    ("plain", "Plain"): ["now"],
+    ("disks", "Disk"): ["syncs", "fallen"],
+    ("rooms", "Room"): ["head", "level", "scale"],
+    ("servers", "Server"): ["syncs", "fallen"],
+}
 GENERATORS = {("Rest", "steps"), ("Tree", "way_up")}
 BASES = {"Window": "Rest", "Days": "Rest", "Later": "Rest", "Sooner": "Rest", "Next": "Rest"}
 
@@ -110,6 +210,12 @@ class Interface(unittest.TestCase):
         for (name, word), keys in PROPERTIES.items():
             for key in keys:
                 self.assertIsInstance(vars(getattr(module_of(name), word))[key], property)
+
+    def test_class_methods(self):
+        for (name, word, method), parameters in CLASS_METHODS.items():
+            found = getattr(module_of(name), word)
+            self.assertIsInstance(vars(found)[method], classmethod)
+            self.assertEqual(str(inspect.signature(getattr(found, method))), parameters)
 
     def test_base_classes(self):
         for name, rows in CLASSES.items():

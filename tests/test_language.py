@@ -33,6 +33,14 @@ BARRED = set(
     globals locals vars dir id help compile""".split()
 )
 DECORATORS = {"property", "staticmethod", "classmethod"}
+METHODS = set(
+    """append clear copy count endswith extend find get index insert isalnum isalpha isdigit islower isspace isupper
+    items join keys ljust lower lstrip partition pop remove replace reverse rfind rjust rpartition rsplit rstrip
+    setdefault split splitlines startswith strip update upper values zfill bit_length""".split()
+)
+CHANGING = {"append", "clear", "extend", "insert", "pop", "remove", "reverse", "setdefault", "update"}
+KEYWORDS = {"sorted": {"key", "reverse"}, "min": {"key", "default"}, "max": {"key", "default"}, "sum": {"start"},
+            "enumerate": {"start"}, "zip": {"strict"}}
 FUNCTIONS = (ast.FunctionDef, ast.Lambda)
 
 
@@ -160,6 +168,37 @@ class Names(unittest.TestCase):
                           if isinstance(one, ast.Attribute) and isinstance(one.ctx, ast.Store)}
             self.assertFalse(attributes & set(methods), (name, node.name))
 
+    def test_no_name_is_a_method_and_an_attribute(self):
+        methods, properties, attributes = set(), set(), set()
+        for _, node in nodes_of(ast.ClassDef):
+            for one in node.body:
+                if isinstance(one, ast.FunctionDef):
+                    marks = [mark.id for mark in one.decorator_list if isinstance(mark, ast.Name)]
+                    (properties if "property" in marks else methods).add(one.name)
+            attributes |= {one.attr for one in ast.walk(node)
+                           if isinstance(one, ast.Attribute) and isinstance(one.ctx, ast.Store)}
+        self.assertEqual([methods & attributes, properties & attributes, properties & methods], [set()] * 3)
+        own = set(dir(str) + dir(int) + dir(list) + dir(dict) + dir(set) + dir(bytes))
+        self.assertEqual({name for name in methods & own if not name.startswith("__")}, {"copy", "join"})
+        self.assertEqual(attributes & own - {"count", "index"}, set())
+        self.assertEqual(properties & own, set())
+
+    def test_only_listed_methods_are_called(self):
+        own = {node.name for _, node in nodes_of(ast.FunctionDef)} | {"first", "second"}
+        for name, node in nodes_of(ast.Call):
+            if isinstance(node.func, ast.Attribute):
+                self.assertIn(node.func.attr, METHODS | own, (name, node.lineno))
+                if node.func.attr in METHODS:
+                    self.assertEqual(node.keywords, [], (name, node.lineno))
+            elif isinstance(node.func, ast.Name) and hasattr(builtins, node.func.id):
+                words = {keyword.arg for keyword in node.keywords}
+                self.assertLessEqual(words, KEYWORDS.get(node.func.id, set()), (name, node.lineno))
+
+    def test_attributes_are_assigned_through_names(self):
+        for name, node in nodes_of(ast.Attribute):
+            if isinstance(node.ctx, ast.Store):
+                self.assertIsInstance(node.value, ast.Name, (name, node.lineno))
+
     def test_a_name_of_a_generator_is_its_own(self):
         rows = nodes_of(ast.FunctionDef)
         names = [node.name for _, node in rows]
@@ -184,6 +223,54 @@ class Steps(unittest.TestCase):
             self.assertIsNotNone(node.type, (name, node.lineno))
             for word in node.type.elts if isinstance(node.type, ast.Tuple) else [node.type]:
                 self.assertNotIn(word.id, ("Exception", "BaseException", "TypeError"), (name, node.lineno))
+
+    def test_what_is_compared_by_is(self):
+        for name, node in nodes_of(ast.Compare):
+            for operator, right in zip(node.ops, node.comparators):
+                if isinstance(operator, (ast.Is, ast.IsNot)):
+                    self.assertIn(getattr(right, "value", 0), (None, True, False), (name, node.lineno))
+                    self.assertIsInstance(right, ast.Constant, (name, node.lineno))
+
+    def test_tables_of_modules_are_only_read(self):
+        for name, tree in trees():
+            tables = [node.targets[0].id for node in tree.body
+                      if isinstance(node, ast.Assign) and isinstance(node.value, (ast.Dict, ast.List))]
+            parents = {child: node for node in ast.walk(tree) for child in ast.iter_child_nodes(node)}
+            for node in ast.walk(tree):
+                if isinstance(node, ast.Name) and node.id in tables and isinstance(node.ctx, ast.Load):
+                    parent = parents[node]
+                    self.assertIsInstance(parent, (ast.Attribute, ast.Subscript, ast.Compare), (name, node.lineno))
+                    self.assertNotIn(getattr(parent, "attr", ""), CHANGING, (name, node.lineno))
+
+    def test_loops_do_not_change_what_they_iterate_over(self):
+        for name, node in nodes_of(ast.For):
+            over = node.iter
+            while isinstance(over, ast.Call) and isinstance(over.func, ast.Attribute):
+                over = over.func.value
+            told = ast.dump(over).replace("Store()", "Load()")
+            for one in [one for row in node.body for one in ast.walk(row)]:
+                where = (name, node.lineno)
+                if isinstance(one, ast.Call) and isinstance(one.func, ast.Attribute) and one.func.attr in CHANGING:
+                    self.assertNotEqual(ast.dump(one.func.value), told, where)
+                if isinstance(one, ast.Subscript) and not isinstance(one.ctx, ast.Load):
+                    self.assertNotEqual(ast.dump(one.value), told, where)
+
+    def test_sets_are_made_where_they_are_used(self):
+        for name, tree in trees():
+            parents = {child: node for node in ast.walk(tree) for child in ast.iter_child_nodes(node)}
+            for node in ast.walk(tree):
+                made = isinstance(node, ast.Call) and isinstance(node.func, ast.Name) and node.func.id == "set"
+                if made or isinstance(node, (ast.Set, ast.SetComp)):
+                    parent = parents[node]
+                    fine = isinstance(parent, ast.Compare) or parent.func.id in ("sorted", "len")
+                    self.assertTrue(fine, (name, node.lineno))
+
+    def test_lengths_are_lengths(self):
+        for name, node in nodes_of(ast.FunctionDef):
+            if node.name == "__len__":
+                for one in ast.walk(node):
+                    if isinstance(one, ast.Return):
+                        self.assertEqual(one.value.func.id, "len", (name, node.lineno))
 
     def test_modules_execute_nothing(self):
         kinds = (ast.FunctionDef, ast.ClassDef, ast.ImportFrom, ast.Assign, ast.Expr)

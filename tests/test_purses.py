@@ -315,6 +315,10 @@ class Using(PurseCase):
         purse = middle((1, 2, 30), (2, 2, 31))
         self.check_same(purse.copy().use(27, "b", 3), [("b", 1, 2), ("b", 2, 1)])
         self.refused(purse, NotHeld, ["b", 3], purse.use, 28, "b", 3)
+        for reading, usable in ((27, 4), (28, 2), (29, 0)):
+            other = purse.copy()
+            other.settle(reading)
+            self.check_same([other.usable("b"), other.payable(), other.ready_chips], [usable, usable, 4])
         self.refused(purse, NotHeld, ["b", 1], purse.use, 28, "b", 1, lot=1)
         self.check_same(purse.copy().use(28, "b", 2), [("b", 2, 2)])
         self.refused(purse, NotHeld, ["b", 1], purse.use, 29, "b", 1)
@@ -341,6 +345,13 @@ class Using(PurseCase):
                 purse = Purse(Tree(Rule("r", 2, rest), Place("a", "sa")), "sa", 1)
                 purse.use(reading, "a", 1)
                 self.check_same(purse.lots("a"), [(0, None, None, 1, ((rest(reading + 1), 1),), (), 0)])
+
+    def test_a_rest_until_the_moment_one(self):
+        purse = Purse(Tree(Rule("r", 2, Window(1)), Place("a", "sa")), "sa", 0)
+        purse.use(0, "a", 1)
+        self.check_same(purse.lots("a"), [(0, None, None, 1, ((1, 1),), (), 0)])
+        purse.settle(1)
+        self.check_same(purse.lots("a"), [(0, None, None, 2, (), (), 0)])
 
     def test_errors_of_use(self):
         purse = middle((1, 2, 30))

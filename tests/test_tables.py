@@ -212,15 +212,17 @@ class Standing(PurseCase):
         tree = Tree(Rule("r", 9, Window(5)), Place("a", "sa"), Place("c", "sa", "a"), Place("b", "sb", "a"))
         purse = Purse(tree, "sa", 0)
         purse.lend(0, "a", "c", 1, until=9)
-        purse.lend(0, "a", "b", 2, until=1)
+        purse.lend(0, "a", "b", 1, until=1)
         purse.lend(0, "a", "b", 2, until=4)
+        purse.lend(0, "a", "c", 1, until=1)
         purse.lend(0, "a", "c", 1)
-        purse.lend(0, "a", "c", 3, until=1)
+        purse.lend(0, "a", "c", 2)
         self.check_same(purse.standing(), (0, (
-            ("a", None, None, 0, (), (("b", 2, 1, None), ("b", 2, 4, None), ("c", 1, None, None), ("c", 1, None, 9),
-                                      ("c", 3, None, 1))),
+            ("a", None, None, 1, (), (("b", 1, 1, None), ("b", 2, 4, None), ("c", 1, None, None), ("c", 1, None, 1),
+                                      ("c", 1, None, 9), ("c", 2, None, None))),
             ("c", None, None, 1, (), ()),
-            ("c", None, 1, 3, (), ()),
+            ("c", None, None, 2, (), ()),
+            ("c", None, 1, 1, (), ()),
             ("c", None, 9, 1, (), ()),
         )))
 
