@@ -13,22 +13,28 @@ from surelet.errors import Missing, NotNow, SureletError
 from surelet.houses import House
 from surelet.purses import Purse
 from surelet.rests import Days, Window
-from surelet.rules import Rule
+from surelet.rules import Rule, is_within
 from surelet.servers import Server
 from surelet.trees import Place, Tree
 
 WORDS = ("kept", "kept", "lost", "torn")
-P = Tree(Rule("p", 16, Window(10)), Place("a", "sa"), Place("m", "sa", "a", memory=True), Place("b", "sb", "a"),
-         Place("d", "sb", "b", customer="ann"), Place("n", "sb", "b", memory=True, customer="firm"))
-Q = Tree(Rule("q", 12, Days([4, 9], 7)), Place("b", "sb"), Place("c", "sb", "b", customer="bob"),
-         Place("m", "sb", "c", memory=True, customer="bob"), Place("a", "sa", "c"))
-R = Tree(Rule("r", 6, Window(6)), Place("a", "sa"))
-HOUSE = House(
-    R, P, Q, servers=[("sa", 1), ("sb", 2)],
-    customers=[("firm", None, 2, ["p"]), ("ann", "firm", 3, ["q"]), ("bob", None, 1, ["q"]), ("cid", None, 4, []),
-               ("dan", "bob", 1, ["r", "p"]), ("eve", "firm", 2, [])],
-    rooms=[("desk", "sb"), ("attic", "sb"), ("hall", "sa")],
-)
+def house_of(p, q, r):
+    """The house of these tests, with these chips of its rules."""
+    return House(
+        Tree(Rule("r", r, Window(6)), Place("a", "sa")),
+        Tree(Rule("p", p, Window(10)), Place("a", "sa"), Place("m", "sa", "a", memory=True), Place("b", "sb", "a"),
+             Place("d", "sb", "b", customer="ann"), Place("n", "sb", "b", memory=True, customer="firm")),
+        Tree(Rule("q", q, Days([4, 9], 7)), Place("b", "sb"), Place("c", "sb", "b", customer="bob"),
+             Place("m", "sb", "c", memory=True, customer="bob"), Place("a", "sa", "c")),
+        servers=[("sa", 1), ("sb", 2)],
+        customers=[("firm", None, 2, ["p"]), ("ann", "firm", 3, ["q"]), ("bob", None, 1, ["q"]), ("cid", None, 4, []),
+                   ("dan", "bob", 1, ["r", "p"]), ("eve", "firm", 2, [])],
+        rooms=[("desk", "sb"), ("attic", "sb"), ("hall", "sa")],
+    )
+
+
+HOUSE = house_of(16, 12, 6)
+SMALL = house_of(2, 2, 1)
 
 
 def answered(call, *args):
@@ -86,18 +92,18 @@ class Runs(Case):
         known = rule in slow.purses
         place, number = self.lot_of(chance, slow, rule, word)
         until = chance.choice([None, reading + chance.randint(0, 30), reading + chance.randint(5, 60)])
-        who = chance.choice(HOUSE.customers())
+        who = chance.choice(slow.house.customers())
         if word == "tick":
             return (word, reading)
         if word == "request":
             return (word, reading, who, chance.choice([1, 1, 2, 3, 0]))
         if word == "enter":
-            room = chance.choice(HOUSE.rooms(slow.name) + ["desk", "attic"])
+            room = chance.choice(slow.house.rooms(slow.name) + ["desk", "attic"])
             return (word, reading, room, who, chance.choice([1, 1, 2, 4, 7]), until)
         if word == "use":
             return (word, reading, rule, place, chance.choice([1, 1, 2]), chance.choice([None, number]))
         if word == "lend":
-            children = HOUSE.tree_of(rule).children(place) if known and place in HOUSE.tree_of(rule) else []
+            children = slow.house.tree_of(rule).children(place) if known and place in slow.house.tree_of(rule) else []
             child = chance.choice(children or ["zz"])
             return (word, reading, rule, place, child, chance.choice([1, 2, 3]), until, chance.choice([None, number]))
         if word == "prolong":
@@ -132,12 +138,12 @@ class Runs(Case):
         """All lots of a rule."""
         if rule not in slow.purses:
             return []
-        places = [place.name for place in HOUSE.tree_of(rule).places() if place.server == slow.name]
+        places = [place.name for place in slow.house.tree_of(rule).places() if place.server == slow.name]
         return [lot for place in places for lot in slow.purses[rule].lots(place)]
 
     def is_for(self, slow, letter):
         """Whether a letter is one for a server."""
-        place = HOUSE.tree_of(letter[1]).place_of(letter[2])
+        place = slow.house.tree_of(letter[1]).place_of(letter[2])
         return (place.server == slow.name) == (letter[0] != "back")
 
     def both(self, server, slow, word, *args):
@@ -200,6 +206,45 @@ class Runs(Case):
             self.check_books(pairs)
         for word in ("tick", "request", "enter", "use", "lend", "prolong", "give", "recall", "receive", "wake", "fall"):
             self.assertGreater(self.seen.get((word, "returned"), 0), 5, word)
+
+    def test_never_over(self):
+        """Whatever is lent, lost and crashed, no stretch of a rule has more uses than the rule has chips."""
+        total = 0
+        for seed in range(60):
+            chance = random.Random(seed)
+            pairs = [(Server(SMALL, name, rows=3), Slow(SMALL, name, 3)) for name in ("sa", "sb")]
+            uses, letters, moment = {rule: [] for rule in SMALL.rules()}, [], 0
+            for _ in range(150):
+                moment += chance.choice([0, 0, 0, 1, 1, 2])
+                server, slow = chance.choice(pairs)
+                if server.fallen:
+                    server.wake(moment + chance.randint(-slow.error, slow.error))
+                    continue
+                slow.purses = {rule: server.purse(rule) for rule in slow.trees}
+                deed = self.deed(chance, slow, moment, letters)
+                if abs(deed[1] - moment) > slow.error or (deed[0] == "receive" and deed[2] not in letters):
+                    continue
+                if chance.random() < 0.06:
+                    answered(server.crash, deed, [chance.choice(WORDS) for _ in range(chance.randint(0, 9))])
+                else:
+                    self.count(uses, letters, moment, deed, answered(server.do, deed))
+            for rule in SMALL.rules():
+                self.assertTrue(is_within(SMALL.tree_of(rule).rule, uses[rule]), (seed, rule))
+                total += sum(n for _, n in uses[rule])
+        self.assertGreater(total, 300)
+
+    def count(self, uses, letters, moment, deed, got):
+        """Keeps the uses and the letter of what was told."""
+        if got[0] != "returned":
+            return
+        if deed[0] == "use":
+            uses[deed[2]].append((moment, deed[4]))
+        rows = [row[2] for row in got[1]] if deed[0] == "tick" else [got[1]] if deed[0] in ("request", "enter") else []
+        for rule, _, _, n in [row for answer in rows if answer.word == "yes" for row in answer.paid]:
+            uses[rule].append((moment, n))
+        letter = got[1][1] if deed[0] == "lend" else got[1]
+        if deed[0] in ("lend", "prolong", "give") and letter is not None:
+            letters.append(letter)
 
     def check_books(self, pairs):
         """A new purse that does the deeds of a book stands where the purse of the server does."""
