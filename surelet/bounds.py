@@ -13,9 +13,14 @@ MOST_CUSTOMERS = 12
 MOST_ROOMS = 6
 MOST_WAITING = 40
 MOST_ROWS = 64
+MOST_NET_PLACES = 12
+MOST_BOOKED = 60
+# Bounds the last moment of a prompt run.
+MOST_LAST = 200
 # Bounds chips of a rule, widths of windows and borders alike.
 MOST_SIZE = 1000
 MOST_COST = 1000
+# Bounds errors of clocks and delays alike.
 MOST_ERROR = 100
 MOST_WEIGHT = 12
 

@@ -18,6 +18,22 @@ FUNCTIONS = {
     },
     "deeds": {"is_deed": "(value)", "perform": "(purse, deed)"},
     "disks": {"read_areas": "(areas)"},
+    "worlds": {"replay": "(house, events, *, rows=16)", "attempt": "(world, events)"},
+    "witnesses": {
+        "witness": "(house, purse, customer, asked)",
+        "judge_witness": "(house, witness, purse)",
+    },
+    "books": {"judge_books": "(house, rule, books)", "book_uses": "(book)"},
+    "timetables": {
+        "leads": "(net, demand, other)",
+        "needed": "(net, demands)",
+        "journeys": "(net, demands)",
+        "clash": "(net, demands)",
+        "judge_journeys": "(net, demands, value)",
+        "judge_clash": "(net, demands, value)",
+        "clash_moments": "(net, demands, clash)",
+    },
+    "prompts": {"prompt": "(net, heaps, demands, *, moments, choices=(), last)"},
 }
 # For each module: its classes, with the methods that the interface lists for each.
 CLASSES = {
@@ -165,6 +181,55 @@ CLASSES = {
             "copy": "(self)",
         },
     },
+    "worlds": {
+        "World": {
+            "__init__": "(self, house, *, rows=16)",
+            "do": "(self, event)",
+            "server_of": "(self, name)",
+            "letters": "(self)",
+            "uses": "(self, rule)",
+            "fullest": "(self, rule)",
+            "over": "(self)",
+            "events": "(self)",
+            "copy": "(self)",
+        },
+    },
+    "witnesses": {
+        "Witness": {
+            "__init__": "(self, rule, server, reading, customer, asked, moment, events, extras, start)",
+            "events": "(self)",
+            "extras": "(self)",
+            "__eq__": "(self, other)",
+        },
+    },
+    "nets": {
+        "Net": {
+            "__init__": "(self, *rows, rest)",
+            "names": "(self)",
+            "elder_of": "(self, name)",
+            "error_of": "(self, name)",
+            "delay_of": "(self, name)",
+            "way": "(self, name, other)",
+            "dist": "(self, name, other)",
+            "kappa": "(self, name, other)",
+            "kappa_place": "(self, name, other)",
+            "tree_of": "(self, chips)",
+            "errors": "(self)",
+        },
+    },
+    "policies": {
+        "Share": {"__init__": "(self, child, n, span, lead)", "__call__": "(self, place, reading, purse, come)"},
+        "Stranger": {"__init__": "(self, numbers)", "__call__": "(self, place, reading, purse, come)"},
+        "Steward": {"__init__": "(self, net, demands, journey)", "__call__": "(self, place, reading, purse, come)"},
+    },
+    "prompts": {
+        "Prompt": {
+            "kept": "(self)",
+            "uses": "(self, heap)",
+            "operations": "(self, heap)",
+            "letters": "(self, heap)",
+        },
+    },
 }
 # For each class method: its parameters behind the class.
 CLASS_METHODS = {("purses", "Purse", "restored"): "(tree, server, error, table, reading)"}
@@ -175,6 +240,7 @@ PROPERTIES = {
     ("disks", "Disk"): ["syncs", "fallen"],
     ("rooms", "Room"): ["head", "level", "scale"],
     ("servers", "Server"): ["syncs", "fallen"],
+    ("worlds", "World"): ["now"],
 }
 GENERATORS = {("Rest", "steps"), ("Tree", "way_up")}
 BASES = {"Window": "Rest", "Days": "Rest", "Later": "Rest", "Sooner": "Rest", "Next": "Rest"}
