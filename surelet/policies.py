@@ -25,6 +25,7 @@ class Share:
         self._end = None
 
     def __call__(self, place, reading, purse, come):
+        """The deeds for a purse of a place: a lend the first time, and a prolong whenever the end comes near."""
         tree = purse.tree
         if self._child not in tree or tree.place_of(self._child).elder != place:
             return []
@@ -46,6 +47,7 @@ class Stranger:
         self._choices = Choices(numbers)
 
     def __call__(self, place, reading, purse, come):
+        """The deeds for a purse of a place: one at most, as the numbers choose."""
         what = self._choices.choose(4)
         if what == 1:
             return self.lending(place, reading, purse.tree)
@@ -98,6 +100,7 @@ class Steward:
         self._low = 0
 
     def __call__(self, place, reading, purse, come):
+        """The deeds for a purse of a place: a lend or a give that brings its chip nearer to the leg."""
         self._low = max(self._low, purse.past)
         rows = [row for row in purse.lots(place) if row[3] > 0]
         left = self.stops_left(come)

@@ -32,11 +32,12 @@ class Script:
         return number
 
     def lend_along(self, way, lot, n, end):
-        """Lends from a lot at the beginning of a way, place by place; returns the number of the lot at its end."""
+        """Lends from a lot at the beginning of a way, place by place; returns the numbers of all lots along it."""
+        lots = [lot]
         for place, child in zip(way, way[1:]):
             until = None if self.server_of(place) == self.server_of(child) else end
-            lot = self.lend(place, lot, child, n, until)
-        return lot
+            lots.append(self.lend(place, lots[-1], child, n, until))
+        return lots
 
     def recall(self, place, lot):
         """Recalls a lot at the moment 0."""
@@ -79,8 +80,8 @@ def script_of(house, purse):
     left = tree.rule.chips
     for row in living_rows(purse, top):
         n = chips_of(row)
-        number = script.lend_along(way, 0, n, row[1])
-        stage(script, purse, top, row, number)
+        lots = script.lend_along(way, 0, n, row[1])
+        stage(script, purse, top, row, lots[-1])
         left = left - n
     if left > 0:
         script.use_later(purse.past, first, 0, left)
@@ -121,9 +122,8 @@ def stage_far(script, place, number, child, n, end):
     """Lends from a lot of a place to a place beneath it on another server; returns the number of the lot there."""
     up = list(script.tree.way_up(child))
     way = up[:up.index(place) + 1][::-1]
-    lot = script.lend(way[0], number, way[1], n, None if len(way) > 2 else end)
-    far = script.lend_along(way[1:], lot, n, end)
+    lots = script.lend_along(way, number, n, end)
     # The loan came home if it lies above the place that lent it: then the lots between were recalled.
     if len(way) > 2:
-        script.recall(way[1], lot)
-    return far
+        script.recall(way[1], lots[1])
+    return lots[-1]

@@ -5,7 +5,7 @@ from surelet.errors import InvalidNumber, Missing, NotLacking, NotSettled, Surel
 from surelet.events import is_of_rule, is_plain_event
 from surelet.plain import Plain
 from surelet.scripts import script_of
-from surelet.words import is_from, is_name, is_whole
+from surelet.words import is_from, is_whole
 
 
 class Witness:
@@ -94,17 +94,17 @@ def judge_witness(house, witness, purse):
     for event in witness.extras():
         if event[1] != witness.moment or not is_let(plain, event):
             return "extra"
-    uses = [*plain.uses(), (witness.moment, witness.asked)]
+    uses = plain.uses() + [(witness.moment, witness.asked)]
     return None if is_over(tree.rule, uses, witness.start) else "over"
 
 
 def is_formed(house, value):
     """Whether any value is a witness with fields of the right kinds."""
-    if not isinstance(value, Witness) or not is_name(value.rule) or value.rule not in house.rules():
+    if not isinstance(value, Witness) or value.rule not in house.rules():
         return False
-    if not is_name(value.server) or value.server not in house.tree_of(value.rule).servers():
+    if value.server not in house.tree_of(value.rule).servers():
         return False
-    if value.customer is not None and not (is_name(value.customer) and value.customer in house.customers()):
+    if value.customer is not None and value.customer not in house.customers():
         return False
     if not is_whole(value.reading) or not is_from(value.asked, 1):
         return False

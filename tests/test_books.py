@@ -66,8 +66,9 @@ class Judging(Case):
             for order in (keys, keys[::-1]):
                 books = {key: [None] for key in order}
                 self.check_error(UnknownName, [least], judge_books, HOUSE, "r", books)
-        for keys, least in (([5], 5), ([30, 4], 4), ([None], None), ([("sa",)], ("sa",)), ([True], True)):
-            self.check_error(UnknownName, [least], judge_books, HOUSE, "r", {key: [] for key in keys})
+        for keys, least in (([5, "zz"], 5), (["zz", None, 7, 6], 6), ([5], 5), ([30, 4], 4), ([None], None), ([("sa",)], ("sa",)), ([True], True)):
+            for order in (keys, keys[::-1]):
+                self.check_error(UnknownName, [least], judge_books, HOUSE, "r", {key: [] for key in order})
 
     def test_items_of_any_kind(self):
         values = [value for value in NOT_NUMBERS] + [5, "tick", ("tick",), ["tick", 3], ("tick", True), ("tick", 3, 3)]

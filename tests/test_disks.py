@@ -1,5 +1,6 @@
 """Disks: their cells, writing, checks, syncs, falls and wakings."""
 
+import copy
 import inspect
 import itertools
 import random
@@ -90,7 +91,7 @@ class New(DiskCase):
         disk = Disk(table)
         table["b"] = "2"
         disk.write({"c": "3"})
-        ahead = shown(disk)
+        ahead = copy.deepcopy(shown(disk))
         disk.table().clear()
         disk.unsynced().clear()
         disk.areas()[0].clear()

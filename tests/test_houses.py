@@ -1,5 +1,6 @@
 """Houses: servers, trees, customers and rooms."""
 
+import copy
 import inspect
 import itertools
 import math
@@ -156,7 +157,7 @@ class Copies(Case):
 
     def test_what_is_returned_may_be_changed(self):
         made = house()
-        before = self.told(made)
+        before = copy.deepcopy(self.told(made))
         for ask in (
             made.servers, made.rules, made.customers, lambda: made.path("zoe"), lambda: made.path_rules("zoe"),
             lambda: made.rooms("sa"),

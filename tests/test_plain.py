@@ -1,5 +1,6 @@
 """The plain house of a rule: its events, letters, uses and errors."""
 
+import copy
 import inspect
 import random
 import unittest
@@ -93,7 +94,7 @@ class Events(PlainCase):
     def test_told_lists_may_be_changed(self):
         plain = self.lent()
         plain.do(deed(3, "sa", "use", 3, "r", "a", 1, None))
-        ahead = told(plain)
+        ahead = copy.deepcopy(told(plain))
         plain.letters().clear()
         plain.uses().clear()
         self.check_same(told(plain), ahead)

@@ -141,6 +141,15 @@ class Strangers(Case):
         single = purse_of(WIDE, "a", lambda one: one.lend(0, "a", "b", 1, until=30))
         self.check_same(self.asked([3, 7], "a", 3, single), [("prolong", 3, "net", 1, 38)])
 
+    def test_loans_without_an_end(self):
+        """A loan on the same server cannot be prolonged, so it is none of those among which is chosen."""
+        tree = Tree(Rule("p", 5, Window(4)), Place("x", "sx"), Place("y", "sx", "x"), Place("z", "sz", "y"))
+        purse = Purse(tree, "sx", 0)
+        purse.lend(0, "x", "y", 2)
+        self.check_same(Stranger([3, 0, 0])("x", 1, purse, ()), [])
+        purse.lend(0, "y", "z", 1, until=20)
+        self.check_same(Stranger([3, 4])("x", 1, purse, ()), [("prolong", 1, "p", 2, 25)])
+
     def test_no_further_choice(self):
         """Where there is no deed, the next number is for the next time."""
         for numbers, place in (([1, 1, 9], "d"), ([2, 1, 9], "a"), ([2, 1, 9], "b"), ([3, 1, 9], "a"), ([0, 1, 9], "a")):
@@ -247,6 +256,12 @@ class Stewards(Case):
         gone = purse_of(EXAMPLE, "c", lambda one: one.settle(63))
         self.check_same(steward("c", 63, gone, ()), [])
         self.check_same(steward("a", 6, purse_of(EXAMPLE, "a"), ()), [])
+
+    def test_a_demand_at_the_moment_0(self):
+        steward = Steward(EXAMPLE, [("a", 0), ("b", 30)], [0, 1])
+        self.check_same(steward("a", 0, purse_of(EXAMPLE, "a", lambda one: one.settle(0)), ()), [])
+        purse = purse_of(EXAMPLE, "a", lambda one: one.settle(1))
+        self.check_same(steward("a", 1, purse, ()), [("lend", 1, "net", "a", "b", 1, 32, None)])
 
     def test_a_reading_to_and_fro(self):
         """The low of a purse is the remembered one, not that of the reading."""

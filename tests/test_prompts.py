@@ -1,5 +1,6 @@
 """Prompt runs: the four steps, the choices, the letters, and what is refused; beside runs that are told step by step."""
 
+import copy
 import random
 import unittest
 
@@ -191,7 +192,7 @@ class Told(Case):
 
     def test_told_lists_are_new(self):
         run = prompt(PAIR, [(2, Share("b", 1, 20, 5))], [("a", 0, 0)], moments=[0], last=4)
-        ahead = all_of(run, 1)
+        ahead = copy.deepcopy(all_of(run, 1))
         for told in (run.kept(), run.uses(0), run.operations(0), run.letters(0)):
             self.assertGreater(len(told), 0)
             told.append(7)

@@ -1,5 +1,6 @@
 """Purses: new ones, readings, settling, using and paying, the examples, and what stands there to be asked."""
 
+import copy
 import inspect
 import unittest
 
@@ -545,7 +546,7 @@ class Copies(PurseCase):
     def test_told_lists_and_dicts_may_be_changed(self):
         purse = middle((1, 9, 90))
         purse.lend(0, "b", "c", 2)
-        ahead = facts(purse)
+        ahead = copy.deepcopy(facts(purse))
         purse.lots("b").clear()
         purse.remembered().clear()
         purse.table().clear()

@@ -1,5 +1,6 @@
 """Servers: their operations one by one, their errors, what is written and synced, and what is asked."""
 
+import copy
 import inspect
 import unittest
 
@@ -351,7 +352,7 @@ class Copies(ServerCase):
     def test_told_objects_are_copies(self):
         server = lent()
         server.enter(0, "desk", "ann", 99, until=15)
-        ahead = shown(server)
+        ahead = copy.deepcopy(shown(server))
         server.purse("p").use(0, "b", 5)
         server.disk().fall()
         server.waiting_in("desk").clear()

@@ -1,5 +1,6 @@
 """Worlds: each kind of event, what is refused, and what a world tells."""
 
+import copy
 import inspect
 import unittest
 from unittest import mock
@@ -411,7 +412,7 @@ class Told(WorldCase):
         world.do(deed(5, "sa", "lend", 5, "q", "a", "e", 1, None, None))
         world.do(deed(5, "sa", "give", 5, "q", "e", 1, [(0, 1)]))
         world.do(("fall", 5, "sc", ["kept"]))
-        ahead = all_of(world)
+        ahead = copy.deepcopy(all_of(world))
         for told in (world.letters(), world.uses("p"), world.over()):
             told.append(7)
             told.clear()
