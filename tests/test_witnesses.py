@@ -421,6 +421,10 @@ class Judging(Case):
         told = Witness("r", "sa", 3, "ann", 1, 3, [], [deed(3, "sa", "use", 3, "r", "a", 1, None)], 3)
         self.word(HOUSE, told, settled, "over")
         self.word(HOUSE, made(told, extras=told.extras() * 2), settled, "extra")
+        # A purse would let these, but their moment is not that of the witness.
+        for moment, reading in ((2, 3), (4, 4), (4, 3)):
+            self.word(HOUSE, made(told, extras=[deed(moment, "sa", "use", reading, "r", "a", 1, None)]), settled, "extra")
+        self.word(HOUSE, made(told, extras=[deed(3, "sa", "use", 4, "r", "a", 1, None)]), settled, "over")
         self.word(HOUSE, made(told, asked=2), settled, "extra")
         self.word(HOUSE, made(told, asked=2, extras=[]), settled, "over")
         self.word(HOUSE, made(told, asked=3, extras=[]), settled, None)
